@@ -206,6 +206,14 @@ func TestClass(t *testing.T) {
 	}
 }
 
+// P6.1: the classes' numbers.
+func TestClassNumbers(t *testing.T) {
+	classes := []int{chunk.Stable, chunk.LeftChanged, chunk.RightChanged, chunk.BothSame, chunk.Conflict}
+	if !slices.Equal(classes, []int{0, 1, 2, 3, 4}) {
+		t.Error(classes)
+	}
+}
+
 // P6.1: each text is cut by its own Span.
 func TestClassByText(t *testing.T) {
 	c := other(span(0, 1), span(0, 1), span(0, 1))

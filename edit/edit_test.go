@@ -120,6 +120,13 @@ func pairs(l []edit.Step) []lcs.Pair {
 	return all
 }
 
+// P4.1: the kinds' numbers.
+func TestKinds(t *testing.T) {
+	if kinds := []int{edit.Keep, edit.Drop, edit.Add}; !slices.Equal(kinds, []int{0, 1, 2}) {
+		t.Error(kinds)
+	}
+}
+
 // P4.1: which scripts are Right.
 func TestRight(t *testing.T) {
 	for _, l := range [][]edit.Step{
